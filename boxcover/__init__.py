@@ -1,0 +1,1 @@
+"""Boxcover: how much boxes cover together."""
