@@ -54,6 +54,11 @@ def need_spot(heap, spot):
         raise NoSpot("this is no spot of the heap's ways")
 
 
+def need_box(ways, box):
+    if not is_box(ways, box):
+        raise NoBox("this is no box of the heap's ways")
+
+
 def numbered_box(heap, number):
     # Python would count a number below 0 from the end; no box has such a number.
     if not is_whole(number) or number < 0 or number >= len(heap[1]):

@@ -1,18 +1,8 @@
 """Boxes on a line: the pieces they cover, the gaps between, and how often."""
 
 from boxcover.boxes import is_whole, need_ways
+from boxcover.cells import cells_of, sizes_by_times
 from boxcover.errors import NoNumber
-
-
-def runs_of(heap):
-    # Boxes begin and end at the ends alone, so the first number of a run speaks for all of it.
-    stretches = [box[0] for box in heap[1]]
-    ends = sorted(set([low for low, high in stretches] + [high for low, high in stretches]))
-    runs = []
-    for start, stop in zip(ends, ends[1:]):
-        times = len([low for low, high in stretches if low <= start < high])
-        runs.append((start, stop, times))
-    return runs
 
 
 def joined(stretches):
@@ -27,7 +17,7 @@ def joined(stretches):
 
 
 def pieces_held(heap, least):
-    return joined([(low, high) for low, high, times in runs_of(heap) if times >= least])
+    return joined([cell[0] for cell, numbers in cells_of(heap) if len(numbers) >= least])
 
 
 def pieces_of(heap):
@@ -46,13 +36,7 @@ def covered_length(heap):
 
 def lengths_often(heap):
     need_ways(heap, 1)
-    runs = runs_of(heap)
-    lengths = [0] * max([times for low, high, times in runs], default=0)
-    for low, high, times in runs:
-        # A run that no box holds is a gap, and has no place in the list.
-        if times > 0:
-            lengths[times - 1] = lengths[times - 1] + high - low
-    return lengths
+    return sizes_by_times(cells_of(heap))
 
 
 def pieces_at_least(heap, k):

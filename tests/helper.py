@@ -2,6 +2,7 @@
 
 import copy
 import itertools
+import random
 
 LIMITS = {1: 20, 2: 10, 3: 6}
 UNIT = {1: ((0, 1),), 2: ((0, 1), (0, 1)), 3: ((0, 1), (0, 1), (0, 1))}
@@ -84,18 +85,33 @@ def no_heaps():
     return wrong
 
 
+def lists_within(thing):
+    """Every list and dict that a thing is or holds, however deep."""
+    found = [thing] if isinstance(thing, (list, dict)) else []
+    if isinstance(thing, (list, tuple)):
+        for part in thing:
+            found += lists_within(part)
+    elif isinstance(thing, dict):
+        for part in thing.values():
+            found += lists_within(part)
+    return found
+
+
 def told(test, ask, *asked):
-    """The answer, made sure of: the same twice, nothing handed in changed, and the list the asker's own."""
+    """The answer, made sure of: the same twice, nothing handed in changed, and every list in it the asker's own."""
     before = copy.deepcopy(asked)
     answer = ask(*asked)
     kept = copy.deepcopy(answer)
     again = ask(*asked)
     test.assertEqual(repr(asked), repr(before))
     test.assertEqual(repr(again), repr(kept))
-    if isinstance(answer, list):
-        test.assertIsNot(answer, again)
-        answer.clear()
-        answer.append("changed")
+    mine = lists_within(answer)
+    every = [id(one) for one in mine + lists_within(again) + lists_within(asked)]
+    test.assertTrue(set(every[:len(mine)]).isdisjoint(every[len(mine):]), "a list told is not the asker's own")
+    test.assertEqual(len(set(every[:len(mine)])), len(mine), "two lists told are one")
+    if mine:
+        for one in mine:
+            one.clear()
         test.assertEqual(repr(again), repr(kept))
         test.assertEqual(repr(asked), repr(before))
         again = ask(*asked)
@@ -126,3 +142,93 @@ def spots(ways, low, high):
 
 def holds_plainly(box, spot):
     return all(number in range(*stretch) for stretch, number in zip(box, spot))
+
+
+# Heaps whose numbers lie from PLACES_LOW to PLACES_HIGH are counted spot by spot. Drawn apart, each of their numbers
+# goes to a place further out and each of their spots stands for a whole box of them: so far heaps are counted, too.
+PLACES_LOW = -3
+PLACES_HIGH = 4
+NEAR_PLACES = list(range(PLACES_LOW, PLACES_HIGH + 1))
+FAR_PLACES = [-FAR, 1 - FAR, -70003, -1, 0, 12345678, FAR - 1, FAR]
+
+
+def shapes(ways):
+    """Heaps of each shape: of no boxes, of one, alike, beside, within, across, apart, as many as a heap may have."""
+    most = LIMITS[ways]
+    rest = ((0, 2), (-1, 1))[:ways - 1]
+    heaps = [[], [((0, 1),) * ways], [((-3, 4),) * ways], [((-2, 3),) + rest]]
+    heaps += [[((-1, 2),) * ways] * many for many in [2, 3, most - 1, most]]
+    heaps.append([((-3, 0),) + rest, ((0, 4),) + rest])
+    heaps.append([((1, 4),) + rest, ((-3, -1),) + rest, ((-1, 1),) + rest])
+    heaps.append([((-1, 1),) * ways, ((-3, 3),) * ways, ((-2, 2),) * ways, ((0, 1),) * ways])
+    heaps.append([((-3, -2),) * ways, ((0, 1),) * ways, ((2, 4),) * ways])
+    heaps.append([((-3, 1),) * ways, ((0, 4),) * ways, ((0, 1),) * ways])
+    heaps.append([((-3, -1),) + rest, ((1, 3),) + rest, ((-3, 3),) + ((3, 4),) * (ways - 1)])
+    heaps.append([((-3, -3 + place % 7 + 1),) * ways for place in range(most)])
+    heaps.append([((3 - place % 7, 4),) + ((place % 3 - 2, place % 4 + 1),) * (ways - 1) for place in range(most)])
+    if ways > 1:
+        heaps.append([((-3, 4), (place, place + 1), (-1, 1))[:ways] for place in range(-3, 0)]
+                     + [((place, place + 1), (-3, 4), (-1, 1))[:ways] for place in range(0, 3)])
+    return [(ways, boxes) for boxes in heaps]
+
+
+def mixed(ways, many, seed):
+    """Heaps of boxes as they come, the same ones each time."""
+    chance = random.Random(seed)
+    stretches = all_stretches(PLACES_LOW, PLACES_HIGH)
+    heaps = []
+    for turn in range(many):
+        # By turns all lengths of stretches, and short ones alone, between which more is left uncovered.
+        some = stretches if turn % 2 == 0 else [one for one in stretches if one[1] - one[0] < 3]
+        boxes = [tuple(chance.choice(some) for _ in range(ways)) for _ in range(chance.randint(2, LIMITS[ways]))]
+        heaps.append((ways, boxes))
+    return heaps
+
+
+def drawn_apart(thing, places):
+    """A heap, box, stretch or number of it with every number of spots gone to its place."""
+    if isinstance(thing, int):
+        return places[thing - PLACES_LOW]
+    return tuple(drawn_apart(part, places) for part in thing)
+
+
+class Counted:
+    """A heap with small numbers, its like drawn apart (heap), and what its spots, counted one by one, tell of it."""
+
+    def __init__(self, near, places):
+        self.ways = near[0]
+        self.near = near
+        self.places = places
+        self.heap = (near[0], [drawn_apart(box, places) for box in near[1]])
+        self.holders = {}
+        for spot in spots(near[0], PLACES_LOW, PLACES_HIGH):
+            numbers = [number for number, box in enumerate(near[1]) if holds_plainly(box, spot)]
+            if numbers:
+                self.holders[spot] = numbers
+
+    def width(self, number):
+        return self.places[number + 1 - PLACES_LOW] - self.places[number - PLACES_LOW]
+
+    def weight(self, spot):
+        size = 1
+        for number in spot:
+            size *= self.width(number)
+        return size
+
+    def size_where(self, wanted):
+        """How many spots the heap has for those of near that are covered and wanted."""
+        return sum(self.weight(spot) for spot, numbers in self.holders.items() if wanted(spot, numbers))
+
+    def often(self):
+        most = max((len(numbers) for numbers in self.holders.values()), default=0)
+        return [self.size_where(lambda spot, numbers: len(numbers) == times) for times in range(1, most + 1)]
+
+    def covered(self):
+        return self.size_where(lambda spot, numbers: True)
+
+
+def counted(ways, many=60):
+    """Heaps of so many ways, near and far out, each counted."""
+    for near in shapes(ways) + mixed(ways, many, ways):
+        yield Counted(near, NEAR_PLACES)
+        yield Counted(near, FAR_PLACES)
