@@ -3,9 +3,13 @@
 from boxcover.boxes import box_size
 
 
+def ends_along(boxes, way):
+    return sorted(set([box[way][0] for box in boxes] + [box[way][1] for box in boxes]))
+
+
 def steps_along(boxes, way):
     # Boxes begin and end at these ends alone, so the first number of a step speaks for all of it.
-    ends = sorted(set([box[way][0] for box in boxes] + [box[way][1] for box in boxes]))
+    ends = ends_along(boxes, way)
     return list(zip(ends, ends[1:]))
 
 

@@ -30,11 +30,11 @@ def cut_at(heap, way, number):
 def joined_alike(steps):
     # Only neighbours are one: of two steps with a gap between them each is as long as can be.
     longest = []
-    for low, high, length in steps:
-        if len(longest) > 0 and longest[-1][1] == low and longest[-1][2] == length:
-            longest[-1] = (longest[-1][0], high, length)
+    for low, high, what in steps:
+        if len(longest) > 0 and longest[-1][1] == low and longest[-1][2] == what:
+            longest[-1] = (longest[-1][0], high, what)
         else:
-            longest.append((low, high, length))
+            longest.append((low, high, what))
     return longest
 
 

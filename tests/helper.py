@@ -85,6 +85,43 @@ def no_heaps():
     return wrong
 
 
+def no_wholes():
+    """Things to stand in a number's place that are none."""
+    return [None, True, False, "1", "", (), (1,), [1], [], {}, {1: 1}]
+
+
+def no_houses():
+    """Things that are no houses, those wrong deep within among them."""
+    house = (0, 4, 2)
+    bad = [(4, 0, 2), (0, 0, 2), (0, 4, 0), (0, 4, -1), (LONG, -LONG, 1), (0, LONG, -LONG)]
+    bad += [(), (0,), (0, 4), (0, 4, 2, 2), [0, 4, 2], {0: 0, 1: 4, 2: 2}, "0..4^2", ((0, 4), 2), (0, (4, 2))]
+    for place, thing in itertools.product(range(3), no_wholes()):
+        bad.append(house[:place] + (thing,) + house[place + 1:])
+    bad += [thing for thing in things() if thing != (0, 1, 2)]
+    wrong = [[one] for one in bad] + [[one, house] for one in bad] + [[house, one] for one in bad]
+    wrong += [(), (house,), house, {0: house}, {house: True}, "-", "0..4^2", (house, house)]
+    return wrong + [thing for thing in things() if thing != []]
+
+
+def no_skylines():
+    """Things that are no skylines, those wrong deep within among them."""
+    line = [(0, 3), (2, 1), (5, 0)]
+    wrong = [
+        [(0, 3)], [(0, 0)], [(0, 3), (2, 1)], [(0, 0), (2, 1), (5, 0)], [(0, 0), (5, 0)], [(0, 3), (5, 0), (6, 0)],
+        [(0, 3), (2, 3), (5, 0)], [(0, 3), (0, 1), (5, 0)], [(0, 3), (2, 1), (2, 0)], [(2, 3), (0, 1), (5, 0)],
+        [(0, 3), (2, 1), (1, 0)], [(5, 0), (2, 1), (0, 3)], [(0, 3), (2, -1), (5, 0)], [(0, -3), (2, 1), (5, 0)],
+        [(0, -1), (5, 0)], [(0, 3), (2, 1), (3, 0), (4, 0), (5, 1), (6, 0)], [(0, 3), (2, 1), (5, -1)],
+        [(LONG, 1), (0, 0)], [(0, 1), (0, 0)], [(0, 1), (5, False)], [(0, True), (5, 0)], [(False, 1), (5, 0)],
+    ]
+    bad = [(), (2,), (2, 1, 1), [2, 1], {2: 1}, "2^1", ((2, 1),), ([2], 1)] + things()
+    for place, thing in itertools.product(range(2), no_wholes()):
+        bad.append(line[1][:place] + (thing,) + line[1][place + 1:])
+    wrong += [[line[0], one, line[2]] for one in bad]
+    wrong += [[one] + line for one in bad] + [line + [one] for one in bad]
+    wrong += [(), tuple(line), dict(line), dict(enumerate(line)), "-", "0^3 5^0", (line,), [line], [line, line]]
+    return wrong + [thing for thing in things() if thing != []]
+
+
 def lists_within(thing):
     """Every list and dict that a thing is or holds, however deep."""
     found = [thing] if isinstance(thing, (list, dict)) else []
@@ -169,7 +206,38 @@ def shapes(ways):
     if ways > 1:
         heaps.append([((-3, 4), (place, place + 1), (-1, 1))[:ways] for place in range(-3, 0)]
                      + [((place, place + 1), (-3, 4), (-1, 1))[:ways] for place in range(0, 3)])
+        heaps.append([box + ((-1, 1),) * (ways - 2) for box in ring(-3, 4)])
+    if ways == 2:
+        heaps += rings_and_lattices()
     return [(ways, boxes) for boxes in heaps]
+
+
+def ring(low, high):
+    """Four boxes around what lies from low + 1 to high - 1 either way."""
+    return [((low, high), (low, low + 1)), ((high - 1, high), (low, high)),
+            ((low, high), (high - 1, high)), ((low, low + 1), (low, high))]
+
+
+def squares(places):
+    return [((first, first + 1), (second, second + 1)) for first, second in places]
+
+
+def rings_and_lattices():
+    """Lists of boxes in a plane with holes, and such as meet at corners."""
+    lattice = [place for place in itertools.product(range(-2, 3), range(-2, 2)) if sum(place) % 2 == 0]
+    around = [place for place in itertools.product(range(3), repeat=2) if place != (1, 1)]
+    return [
+        ring(-3, 4) + ring(-1, 2), ring(-3, 4) + ring(-1, 2) + squares([(0, 0)]), ring(-3, 4) + squares([(-2, -2)]),
+        ring(-3, 4) + squares([(-1, -1), (0, 0), (1, 1)]), ring(-3, 1) + ring(0, 4), ring(-3, 1) + ring(1, 4),
+        squares(lattice), squares(lattice[::2]), squares((place, place) for place in range(-3, 4)),
+        squares((place, -place) for place in range(-3, 4)), squares(around),
+        squares(place for place in around if place != (0, 0)), squares(place for place in around if place != (2, 2)),
+        squares(place for place in around if place != (0, 2)), squares(place for place in around if place != (2, 0)),
+        # Two holes that meet at a corner are one, and a hole that meets the outside there is none.
+        [((-3, 1), (-3, -2)), ((-3, -2), (-3, 1)), ((-1, 1), (-2, -1)), ((-2, -1), (-1, 1)), ((0, 1), (-1, 1)),
+         ((-2, 1), (0, 1))],
+        [((-3, 4), (-3, -2)), ((-3, -2), (-3, 4)), ((-1, 4), (-2, -1)), ((-2, -1), (-1, 4)), ((0, 4), (-1, 0))],
+    ]
 
 
 def mixed(ways, many, seed):

@@ -4,11 +4,16 @@ import itertools
 import unittest
 
 from boxcover.boxes import boxes_at, how_often, size_of, span_of
+from boxcover.heights import (
+    area_under, fewest_houses, height_at, higher_of, houses_of, is_skyline, lower_of, skyline_of,
+)
 from boxcover.line import covered_length, gaps_of, lengths_often, pieces_at_least, pieces_of
+from boxcover.outlines import hole_sizes, outline_length, outline_of, piece_sizes
+from boxcover.parts import covered_both, covered_without, covers_same, is_parting, parting_of
 from boxcover.plane import areas_often, covered_area, cut_at, lengths_across
 from boxcover.sizes import covered_size, size_within, sizes_often, sums_of_sets
 from boxcover.whose import fewest_same, most_often, needless, own_sizes
-from tests.helper import NEAR_PLACES, UNIT, counted
+from tests.helper import FAR, NEAR_PLACES, UNIT, counted, drawn_apart
 
 
 def without(heap, number):
@@ -23,6 +28,31 @@ def size_by_cuts(heap, way):
     """How much a heap of more ways than one covers, by cuts between the ends of its boxes alone."""
     ends = sorted(set(itertools.chain(*[box[way] for box in heap[1]])))
     return sum((high - low) * covered_size(cut_at(heap, way, low)) for low, high in zip(ends, ends[1:]))
+
+
+def box_size(box):
+    size = 1
+    for low, high in box:
+        size *= high - low
+    return size
+
+
+def turned_size(corners):
+    """What a round goes about, below 0 where it turns to the right."""
+    turns = zip(corners, corners[1:] + corners[:1])
+    return sum(here[0] * there[1] - there[0] * here[1] for here, there in turns) // 2
+
+
+def boxes_of_houses(houses):
+    return (2, [((low, high), (0, height)) for low, high, height in houses])
+
+
+def towns():
+    """Houses, at most ten, over the stretches of boxes in the plane: near, and far out and high."""
+    for one in counted(2, 40):
+        houses = [box[0] + (box[1][1] - box[1][0],) for box in one.heap[1]]
+        yield houses
+        yield [(low, high, height % 3 + 1) for low, high, height in houses]
 
 
 class TestTheSameIsCovered(unittest.TestCase):
@@ -100,6 +130,143 @@ class TestTheSameIsCovered(unittest.TestCase):
                     self.assertEqual(size_within(one.heap, span_of(one.heap)), covered_size(one.heap), one.heap)
                 for number, box in enumerate(one.heap[1]):
                     self.assertEqual(size_within(one.heap, box), size_of(one.heap, number), one.heap)
+
+
+class TestByOutlines(unittest.TestCase):
+    def test_as_many_rounds_as_pieces_and_holes(self):
+        for one in counted(2):
+            rounds = outline_of(one.heap)
+            self.assertEqual(len(rounds), len(piece_sizes(one.heap) + hole_sizes(one.heap)), one.heap)
+            sizes = [turned_size(corners) for corners in rounds]
+            self.assertEqual(sum(size > 0 for size in sizes), len(piece_sizes(one.heap)), one.heap)
+            self.assertEqual(sum(size < 0 for size in sizes), len(hole_sizes(one.heap)), one.heap)
+
+    def test_turned_rounds_come_to_what_is_covered(self):
+        for one in counted(2):
+            turned = sum(turned_size(corners) for corners in outline_of(one.heap))
+            self.assertEqual(turned, covered_size(one.heap), one.heap)
+
+    def test_pieces_come_to_what_is_covered(self):
+        for one in counted(2):
+            self.assertEqual(sum(piece_sizes(one.heap)), covered_size(one.heap), one.heap)
+
+    def test_the_length_by_cuts(self):
+        # At each number a cut's pieces have two ends each, and each end is a step of the outline.
+        for one in counted(2):
+            long = 0
+            for way in (0, 1):
+                ends = sorted(set(itertools.chain(*[box[way] for box in one.heap[1]])))
+                for low, high in zip(ends, ends[1:]):
+                    long += (high - low) * 2 * len(pieces_of(cut_at(one.heap, way, low)))
+            self.assertEqual(outline_length(one.heap), long, one.heap)
+
+    def test_heaps_that_cover_the_same_have_one_outline(self):
+        for one in counted(2):
+            fewer = (2, [one.heap[1][number] for number in fewest_same(one.heap)])
+            for ask in [outline_of, outline_length, piece_sizes, hole_sizes]:
+                self.assertEqual(ask(fewer), ask(one.heap), one.heap)
+
+
+class TestByBoxesApart(unittest.TestCase):
+    def test_the_told_parting_comes_to_what_is_covered(self):
+        for ways in UNIT:
+            for one in counted(ways):
+                parting = parting_of(one.heap)
+                self.assertIs(is_parting(one.heap, parting), True, one.heap)
+                self.assertEqual(sum(map(box_size, parting)), covered_size(one.heap), one.heap)
+                for box in parting:
+                    self.assertEqual(size_within(one.heap, box), box_size(box), one.heap)
+
+    def test_on_a_line_the_pieces(self):
+        for one in counted(1):
+            self.assertEqual(parting_of(one.heap), [(piece,) for piece in pieces_of(one.heap)], one.heap)
+            for k in range(1, 4):
+                alone = [(piece,) for piece in pieces_at_least(one.heap, k)]
+                same = sum(map(box_size, alone)) == covered_size(one.heap)
+                self.assertIs(is_parting(one.heap, alone), same, (one.heap, k))
+
+    def test_the_parting_of_a_cut(self):
+        for ways in (2, 3):
+            for one in counted(ways, 20):
+                parting = parting_of(one.heap)
+                for number in {end for box in one.heap[1] for end in (box[0][0] - 1, box[0][0], box[0][1])}:
+                    there = [box[1:] for box in parting if box[0][0] <= number < box[0][1]]
+                    self.assertEqual(parting_of(cut_at(one.heap, 0, number)), there, (one.heap, number))
+
+    def test_without_and_both_are_a_parting_of_the_first(self):
+        for ways in UNIT:
+            heaps = list(counted(ways, 20))
+            for one, other in zip(heaps, heaps[9:] + heaps[:9]):
+                without_it = covered_without(one.heap, other.heap)
+                both = covered_both(one.heap, other.heap)
+                self.assertIs(is_parting(one.heap, without_it + both), True, (one.heap, other.heap))
+                self.assertEqual(both, covered_both(other.heap, one.heap))
+                same = not without_it and not covered_without(other.heap, one.heap)
+                self.assertIs(covers_same(one.heap, other.heap), same, (one.heap, other.heap))
+
+    def test_without_one_box_what_only_it_holds(self):
+        for ways in UNIT:
+            for one in counted(ways, 20):
+                for number, size in enumerate(own_sizes(one.heap)):
+                    lost = covered_without(one.heap, without(one.heap, number))
+                    self.assertEqual(sum(map(box_size, lost)), size, (one.heap, number))
+
+    def test_the_fewest_cover_the_same(self):
+        for ways in UNIT:
+            for one in counted(ways):
+                if len(one.heap[1]) <= 10:
+                    fewer = (ways, [one.heap[1][number] for number in fewest_same(one.heap)])
+                    self.assertIs(covers_same(one.heap, fewer), True, one.heap)
+                for number, size in enumerate(own_sizes(one.heap)):
+                    self.assertIs(covers_same(one.heap, without(one.heap, number)), size == 0, one.heap)
+
+    def test_a_box_within_a_heap(self):
+        for ways in UNIT:
+            for one in counted(ways, 20):
+                box = drawn_apart(((-1, 2), (-2, 1), (0, 3))[:ways], one.places)
+                both = covered_both(one.heap, (ways, [box]))
+                self.assertEqual(sum(map(box_size, both)), size_within(one.heap, box), one.heap)
+
+
+class TestHousesAndHeaps(unittest.TestCase):
+    def test_what_lies_under_a_skyline_is_what_the_boxes_cover(self):
+        for houses in towns():
+            line = skyline_of(houses)
+            heap = boxes_of_houses(houses)
+            self.assertEqual(area_under(line), covered_area(heap), houses)
+            self.assertEqual(lengths_across(heap, 0), houses_of(line), houses)
+
+    def test_the_fewest_and_those_side_by_side_cover_the_same(self):
+        for houses in towns():
+            line = skyline_of(houses)
+            for others in [fewest_houses(line), houses_of(line)]:
+                self.assertEqual(skyline_of(others), line, houses)
+                if len(others) <= 10:
+                    self.assertIs(covers_same(boxes_of_houses(houses), boxes_of_houses(others)), True, houses)
+            self.assertEqual(needless(boxes_of_houses(fewest_houses(line)[:10])), [], houses)
+
+    def test_a_skyline_has_the_heights_of_its_houses(self):
+        for houses in towns():
+            line = skyline_of(houses)
+            self.assertTrue(is_skyline(line))
+            for number, height in line:
+                self.assertEqual(height_at(houses, number), height, houses)
+                self.assertNotEqual(height_at(houses, number - 1), height, houses)
+
+    def test_higher_and_lower_of_two(self):
+        every = list(towns())
+        for houses, others in zip(every, every[9:] + every[:9]):
+            lines = [skyline_of(houses), skyline_of(others)]
+            higher = higher_of(*lines)
+            lower = lower_of(*lines)
+            self.assertEqual(higher, skyline_of(houses + others))
+            self.assertEqual(area_under(higher) + area_under(lower), area_under(lines[0]) + area_under(lines[1]))
+            both = covered_both(boxes_of_houses(houses), boxes_of_houses(others))
+            self.assertEqual(area_under(lower), sum(map(box_size, both)))
+
+    def test_far_and_high(self):
+        houses = [(-FAR, FAR, FAR), (0, 1, 2 * FAR)]
+        self.assertEqual(area_under(skyline_of(houses)), covered_area(boxes_of_houses(houses)))
 
 
 class TestWhose(unittest.TestCase):

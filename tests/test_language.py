@@ -28,6 +28,11 @@ methodcaller os quit setattr super type vars sys __name__""".split())
 NOT_WORDS = re.compile(
     r"\b(type|typing|typing_extensions|enum|Enum|IntEnum|StrEnum|Flag|IntFlag|Generic|Protocol|ABC|ABCMeta|namedtuple"
     r"|NamedTuple|TypedDict|TYPE_CHECKING|abstractmethod)\b|dataclass|overload|contextmanager")
+WALKED = ("zip", "enumerate", "reversed", "range", "items", "keys", "values")
+WALKERS = ("list", "tuple", "dict", "sorted", "sum", "any", "all", "enumerate", "zip")
+KEYWORDS = {"sorted": ("key", "reverse"), "min": ("key", "default"), "max": ("key", "default"), "sum": ("start",),
+            "enumerate": ("start",), "zip": ("strict",)}
+CHANGES = ("append", "clear", "extend", "insert", "pop", "remove", "reverse", "setdefault", "update")
 FORM = re.compile(r"[A-Za-z][A-Za-z0-9_]*")
 
 
@@ -41,6 +46,22 @@ def trees():
 
 def nodes(*kinds):
     return [(path, node) for path, tree in trees() for node in ast.walk(tree) if isinstance(node, kinds)]
+
+
+def with_parents(wanted):
+    """Each node that is wanted, with the node that it stands in."""
+    found = []
+    for path, tree in trees():
+        for parent in ast.walk(tree):
+            found += [(path, node, parent) for node in ast.iter_child_nodes(parent) if wanted(node)]
+    return found
+
+
+def called(node):
+    """The name of Python's own or the method that a node calls, or None."""
+    if not isinstance(node, ast.Call):
+        return None
+    return node.func.id if isinstance(node.func, ast.Name) else node.func.attr
 
 
 def bound_names(tree):
@@ -164,6 +185,61 @@ class TestForms(unittest.TestCase):
                 self.assertTrue(
                     any(isinstance(side, ast.Constant) and side.value in (None, True, False) for side in sides),
                     (path, node.lineno))
+
+
+class TestWalked(unittest.TestCase):
+    def test_walked_on_the_spot(self):
+        for path, node, parent in with_parents(lambda node: called(node) in WALKED):
+            if isinstance(parent, (ast.For, ast.comprehension)):
+                self.assertIs(parent.iter, node, (path, node.lineno))
+            elif called(parent) in ("min", "max", "join"):
+                self.assertEqual(parent.args, [node], (path, node.lineno))
+            else:
+                self.assertIn(called(parent), WALKERS, (path, node.lineno))
+                self.assertIn(node, parent.args if called(parent) == "zip" else parent.args[:1], (path, node.lineno))
+
+    def test_sets(self):
+        for path, node, parent in with_parents(lambda node: called(node) in ("set", "frozenset")):
+            if not isinstance(parent, (ast.Compare, ast.BinOp)):
+                self.assertIn(called(parent), ("sorted", "len"), (path, node.lineno))
+                self.assertEqual(parent.keywords, [], (path, node.lineno))
+        self.assertEqual(nodes(ast.Set), [])
+
+    def test_keywords(self):
+        for path, node in nodes(ast.Call):
+            for keyword in node.keywords:
+                self.assertIn(keyword.arg, KEYWORDS.get(called(node), ()), (path, node.lineno))
+
+    def test_pythons_own_are_called_not_kept(self):
+        for path, node, parent in with_parents(lambda node: isinstance(node, ast.Name) and node.id in OWN):
+            if isinstance(parent, ast.Call) and parent.func is not node:
+                self.assertEqual(called(parent), "isinstance", (path, node.lineno))
+            else:
+                kinds = (ast.Call, ast.ClassDef, ast.ExceptHandler, ast.Tuple)
+                self.assertIsInstance(parent, kinds, (path, node.lineno))
+
+    def test_what_a_loop_walks_is_not_changed_in_it(self):
+        for path, loop in nodes(ast.For):
+            walked = {ast.dump(node) for node in ast.walk(loop.iter) if isinstance(node, (ast.Name, ast.Attribute))}
+            for node in [inner for row in loop.body for inner in ast.walk(row)]:
+                if isinstance(node, ast.Call) and isinstance(node.func, ast.Attribute) and node.func.attr in CHANGES:
+                    self.assertNotIn(ast.dump(node.func.value), walked, (path, node.lineno))
+                if isinstance(node, ast.Subscript) and isinstance(node.ctx, ast.Store):
+                    self.assertNotIn(ast.dump(node.value), walked, (path, node.lineno))
+
+    def test_what_stands_at_the_top_is_only_read(self):
+        for path, tree in trees():
+            rows = [row for row in tree.body if isinstance(row, ast.Assign)]
+            for row in rows:
+                for inner in ast.walk(row.value):
+                    if inner is not row.value:
+                        self.assertNotIsInstance(inner, (ast.List, ast.Dict, ast.Call, ast.BinOp), (path, row.lineno))
+            kept = [row.targets[0].id for row in rows if isinstance(row.value, (ast.List, ast.Dict))]
+            for parent in ast.walk(tree):
+                for node in ast.iter_child_nodes(parent):
+                    if isinstance(node, ast.Name) and node.id in kept and isinstance(node.ctx, ast.Load):
+                        self.assertIsInstance(parent, (ast.Subscript, ast.Compare, ast.For, ast.comprehension),
+                                              (path, node.lineno))
 
 
 class TestNames(unittest.TestCase):
