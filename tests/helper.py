@@ -3,6 +3,7 @@
 import copy
 import itertools
 import random
+import re
 
 LIMITS = {1: 20, 2: 10, 3: 6}
 UNIT = {1: ((0, 1),), 2: ((0, 1), (0, 1)), 3: ((0, 1), (0, 1), (0, 1))}
@@ -260,6 +261,16 @@ def drawn_apart(thing, places):
     return tuple(drawn_apart(part, places) for part in thing)
 
 
+def changed_otherwise(box):
+    """A box a little longer, shorter, moved, either way."""
+    for way in range(len(box)):
+        low, high = box[way]
+        for stretch in [(low, high + 1), (low - 1, high), (low + 1, high), (low, high - 1),
+                        (low + 1, high + 1), (low - 1, high - 1)]:
+            if stretch[0] < stretch[1]:
+                yield box[:way] + (stretch,) + box[way + 1:]
+
+
 class Counted:
     """A heap with small numbers, its like drawn apart (heap), and what its spots, counted one by one, tell of it."""
 
@@ -300,3 +311,77 @@ def counted(ways, many=60):
     for near in shapes(ways) + mixed(ways, many, ways):
         yield Counted(near, NEAR_PLACES)
         yield Counted(near, FAR_PLACES)
+
+
+# What texts write, told by their patterns.
+NUMBER = "(?:0|-?[1-9][0-9]*)"
+STRETCH = rf"{NUMBER}\.\.{NUMBER}"
+BOX = re.compile(rf"{STRETCH}(?:,{STRETCH})*")
+HEAP = re.compile(rf"({NUMBER})((?: {BOX.pattern})*)")
+SPOT = re.compile(rf"{NUMBER}(?:,{NUMBER})*")
+HOUSES = re.compile(rf"-|{STRETCH}\^{NUMBER}(?: {STRETCH}\^{NUMBER})*")
+SKYLINE = re.compile(rf"-|{NUMBER}\^{NUMBER}(?: {NUMBER}\^{NUMBER})*")
+SIGNS = "0123456789-.,^ \t\n+a~_"
+
+
+def figures(number):
+    """A number's writing, put together figure by figure."""
+    rest = abs(number)
+    signs = ""
+    while rest > 0 or signs == "":
+        rest, figure = divmod(rest, 10)
+        signs = "0123456789"[figure] + signs
+    return "-" + signs if number < 0 else signs
+
+
+def numbers_in(text):
+    return [int(number) for number in re.findall(NUMBER, text)]
+
+
+def box_plainly(text):
+    """The box of any ways that a text writes, or None."""
+    box = tuple(tuple(numbers_in(part)) for part in text.split(",")) if BOX.fullmatch(text) else ()
+    return box if len(box) in LIMITS and all(low < high for low, high in box) else None
+
+
+def heap_plainly(text):
+    """The heap that a text writes, or None."""
+    found = HEAP.fullmatch(text)
+    if not found or found[1] not in ("1", "2", "3"):
+        return None
+    ways = int(found[1])
+    boxes = [box_plainly(word) for word in found[2].split()]
+    right = len(boxes) <= LIMITS[ways] and all(box is not None and len(box) == ways for box in boxes)
+    return (ways, boxes) if right else None
+
+
+def spot_plainly(text):
+    spot = tuple(numbers_in(text)) if SPOT.fullmatch(text) else ()
+    return spot if 1 <= len(spot) <= 3 else None
+
+
+def houses_plainly(text):
+    if not HOUSES.fullmatch(text):
+        return None
+    houses = [tuple(numbers_in(word)) for word in text.split()] if text != "-" else []
+    return houses if all(low < high and height > 0 for low, high, height in houses) else None
+
+
+def skyline_plainly(text):
+    if not SKYLINE.fullmatch(text):
+        return None
+    line = [tuple(numbers_in(word)) for word in text.split()] if text != "-" else []
+    right = all(height >= 0 for number, height in line)
+    right = right and all(one[0] < two[0] and one[1] != two[1] for one, two in zip(line, line[1:]))
+    right = right and (line == [] or line[0][1] != 0 == line[-1][1])
+    return line if right else None
+
+
+def changed_by_one_sign(text):
+    for place in range(len(text) + 1):
+        yield text[:place] + text[place + 1:]
+        for sign in SIGNS:
+            yield text[:place] + sign + text[place:]
+            yield text[:place] + sign + text[place + 1:]
+    for place in range(len(text) - 1):
+        yield text[:place] + text[place + 1] + text[place] + text[place + 2:]

@@ -4,16 +4,24 @@ import itertools
 import unittest
 
 from boxcover.boxes import boxes_at, how_often, size_of, span_of
+from boxcover.desk import Desk
 from boxcover.heights import (
     area_under, fewest_houses, height_at, higher_of, houses_of, is_skyline, lower_of, skyline_of,
 )
+from boxcover.kept import Kept
 from boxcover.line import covered_length, gaps_of, lengths_often, pieces_at_least, pieces_of
 from boxcover.outlines import hole_sizes, outline_length, outline_of, piece_sizes
+from boxcover.papers import paper_of, paper_says
 from boxcover.parts import covered_both, covered_without, covers_same, is_parting, parting_of
 from boxcover.plane import areas_often, covered_area, cut_at, lengths_across
 from boxcover.sizes import covered_size, size_within, sizes_often, sums_of_sets
+from boxcover.texts import (
+    heap_text, houses_text, read_heap, read_houses, read_skyline, read_spot, skyline_text, spot_text,
+)
 from boxcover.whose import fewest_same, most_often, needless, own_sizes
-from tests.helper import FAR, NEAR_PLACES, UNIT, counted, drawn_apart
+from tests.helper import FAR, NEAR_PLACES, PLACES_HIGH, PLACES_LOW, UNIT, counted, drawn_apart, holds_plainly, spots
+
+LETTERS = "abcdefghijklmnopqrst"
 
 
 def without(heap, number):
@@ -53,6 +61,22 @@ def towns():
         houses = [box[0] + (box[1][1] - box[1][0],) for box in one.heap[1]]
         yield houses
         yield [(low, high, height % 3 + 1) for low, high, height in houses]
+
+
+def kept_of(heap):
+    """A Kept of the boxes of a heap, put from the last one on."""
+    kept = Kept(heap[0])
+    for number in reversed(range(len(heap[1]))):
+        kept.put_box(LETTERS[number], heap[1][number])
+    return kept
+
+
+def desk_of(heap):
+    desk = Desk()
+    desk.answer(f"ways {heap[0]}")
+    for name, word in zip(LETTERS, heap_text(heap).split(" ")[1:]):
+        desk.answer(f"put {name} {word}")
+    return desk
 
 
 class TestTheSameIsCovered(unittest.TestCase):
@@ -267,6 +291,117 @@ class TestHousesAndHeaps(unittest.TestCase):
     def test_far_and_high(self):
         houses = [(-FAR, FAR, FAR), (0, 1, 2 * FAR)]
         self.assertEqual(area_under(skyline_of(houses)), covered_area(boxes_of_houses(houses)))
+
+
+class TestTheWhole(unittest.TestCase):
+    """Over the whole program: each way to reckon it comes to what counting spot by spot comes to."""
+
+    def sizes_told(self, heap):
+        paper = paper_of(heap)
+        sizes = {
+            "size": covered_size(heap), "often": sum(sizes_often(heap)), "sets": by_turns(sums_of_sets(heap)),
+            "parting": sum(map(box_size, parting_of(heap))), "paper": paper_says(heap, paper)[0],
+            "rows": sum(box_size(box) for box, numbers in paper), "kept": kept_of(heap).size_now(),
+            "desk": int(desk_of(heap).answer("size")), "read": covered_size(read_heap(heap_text(heap))),
+            "same": sum(map(box_size, covered_both(heap, heap))),
+            "alone": sum(map(box_size, covered_without(heap, (heap[0], [])))),
+        }
+        for way in range(heap[0] if heap[0] > 1 else 0):
+            sizes["cuts", way] = size_by_cuts(heap, way)
+        if heap[0] == 1:
+            sizes["length"] = covered_length(heap)
+            sizes["lengths"] = sum(lengths_often(heap))
+            sizes["pieces"] = sum(high - low for low, high in pieces_of(heap))
+        if heap[0] == 2:
+            sizes["area"] = covered_area(heap)
+            sizes["areas"] = sum(areas_often(heap))
+            sizes["rounds"] = sum(map(turned_size, outline_of(heap)))
+            sizes["pieces"] = sum(piece_sizes(heap))
+            for way in (0, 1):
+                sizes["across", way] = sum((high - low) * length for low, high, length in lengths_across(heap, way))
+        return sizes
+
+    def test_as_many_spots_are_covered(self):
+        for ways in UNIT:
+            for one in counted(ways, 40):
+                sizes = self.sizes_told(one.heap)
+                self.assertEqual(sizes, dict.fromkeys(sizes, one.covered()), one.heap)
+
+    def test_just_so_often(self):
+        for ways in UNIT:
+            for one in counted(ways, 40):
+                often = [sizes_often(one.heap), paper_says(one.heap, paper_of(one.heap))[1]]
+                often += [ask(one.heap) for ask in {1: [lengths_often], 2: [areas_often], 3: []}[ways]]
+                answer = desk_of(one.heap).answer("often")
+                often.append([] if answer == "-" else [int(word) for word in answer.split(" ")])
+                self.assertEqual(often, [one.often()] * len(often), one.heap)
+
+    def test_the_very_spots(self):
+        for ways in UNIT:
+            for one in counted(ways, 15):
+                if one.places != NEAR_PLACES:
+                    continue
+                paper = paper_of(one.heap)
+                parting = parting_of(one.heap)
+                for spot in spots(ways, PLACES_LOW - 1, PLACES_HIGH + 1):
+                    held = one.holders.get(spot, [])
+                    self.assertEqual(boxes_at(one.heap, spot), held)
+                    rows = [numbers for box, numbers in paper if holds_plainly(box, spot)]
+                    self.assertEqual(rows, [held] if held else [])
+                    self.assertEqual(sum(holds_plainly(box, spot) for box in parting), 1 if held else 0)
+
+    def test_a_paper_is_a_parting(self):
+        for ways in UNIT:
+            for one in counted(ways, 30):
+                paper = paper_of(one.heap)
+                self.assertIs(is_parting(one.heap, [box for box, numbers in paper]), True, one.heap)
+                for box, numbers in paper:
+                    self.assertEqual(boxes_at(one.heap, tuple(low for low, high in box)), numbers, one.heap)
+                    self.assertEqual(boxes_at(one.heap, tuple(high - 1 for low, high in box)), numbers, one.heap)
+
+    def test_a_kept_tells_as_of_its_boxes_handed_in_anew(self):
+        for ways in UNIT:
+            for one in counted(ways, 30):
+                kept = kept_of(one.heap)
+                self.assertEqual(kept.heap_now(), one.heap)
+                self.assertEqual(kept.names_now(), list(LETTERS[:len(one.heap[1])]))
+                self.assertEqual(kept.most_now(), most_often(one.heap))
+                for spot in list(one.holders)[:10]:
+                    there = drawn_apart(spot, one.places)
+                    self.assertEqual(kept.often_at(there), how_often(one.heap, there))
+                for number, size in enumerate(own_sizes(one.heap)):
+                    self.assertEqual(kept.take_box(LETTERS[number]), -size, one.heap)
+                    self.assertEqual(kept.undo(), size, one.heap)
+
+    def test_texts_and_back(self):
+        for ways in UNIT:
+            for one in counted(ways, 30):
+                self.assertEqual(read_heap(heap_text(one.heap)), one.heap)
+                most = most_often(one.heap)
+                if most:
+                    self.assertEqual(read_spot(spot_text(most[1])), most[1])
+                    answer = desk_of(one.heap).answer("most")
+                    self.assertEqual(answer, f"{most[0]} {spot_text(most[1])}")
+
+    def test_a_parting_of_the_desk_may_be_read(self):
+        for ways in UNIT:
+            for one in counted(ways, 20):
+                words = desk_of(one.heap).answer("parting")
+                boxes = [] if words == "-" else [read_heap(f"{ways} {word}")[1][0] for word in words.split(" ")]
+                self.assertIs(is_parting(one.heap, boxes), True, one.heap)
+
+    def test_a_skyline_leads_to_houses_and_back(self):
+        desk = Desk()
+        for houses in towns():
+            line = skyline_of(houses)
+            self.assertEqual(read_houses(houses_text(houses)), houses)
+            self.assertEqual(read_skyline(skyline_text(line)), line)
+            sky = desk.answer("sky " + houses_text(houses))
+            self.assertEqual(sky, skyline_text(line))
+            fewest = desk.answer("fewest " + sky)
+            self.assertEqual(fewest, houses_text(fewest_houses(line)))
+            self.assertEqual(desk.answer("sky " + fewest), sky)
+            self.assertEqual(desk.answer("sky " + houses_text(houses_of(line))), sky)
 
 
 class TestWhose(unittest.TestCase):

@@ -58,10 +58,12 @@ def with_parents(wanted):
 
 
 def called(node):
-    """The name of Python's own or the method that a node calls, or None."""
-    if not isinstance(node, ast.Call):
-        return None
-    return node.func.id if isinstance(node.func, ast.Name) else node.func.attr
+    """The name or the method that a node calls, or None."""
+    if isinstance(node, ast.Call) and isinstance(node.func, ast.Name):
+        return node.func.id
+    if isinstance(node, ast.Call) and isinstance(node.func, ast.Attribute):
+        return node.func.attr
+    return None
 
 
 def bound_names(tree):
@@ -187,6 +189,35 @@ class TestForms(unittest.TestCase):
                     (path, node.lineno))
 
 
+class TestObjects(unittest.TestCase):
+    def test_no_name_is_a_method_in_one_class_and_a_value_in_another(self):
+        rows = [row for path, node in nodes(ast.ClassDef) for row in node.body]
+        methods = {row.name for row in rows if isinstance(row, ast.FunctionDef)}
+        values = {node.attr for path, node in nodes(ast.Attribute) if isinstance(node.ctx, ast.Store)}
+        self.assertEqual(methods & values, set())
+        for name in (methods | values) - DUNDERS:
+            for own in (str, int, list, dict, set, bytes, tuple):
+                self.assertFalse(hasattr(own, name), name)
+
+    def test_values_are_set_when_an_object_is_made(self):
+        for path, node in nodes(ast.ClassDef):
+            stored = {}
+            for method in [row for row in node.body if isinstance(row, ast.FunctionDef)]:
+                stored[method.name] = {inner.attr for inner in ast.walk(method)
+                                       if isinstance(inner, ast.Attribute) and isinstance(inner.ctx, ast.Store)}
+            made = stored.get("__init__", set())
+            for names in stored.values():
+                self.assertLessEqual(names, made, (path, node.name))
+
+    def test_errors_taken(self):
+        own = {node.name for path, node in nodes(ast.ClassDef) if path.stem == "errors"}
+        for path, node in nodes(ast.ExceptHandler):
+            self.assertIsInstance(node.type, ast.Name, (path, node.lineno))
+            self.assertIn(node.type.id, own | {"KeyError", "ZeroDivisionError", "StopIteration"}, (path, node.lineno))
+        for path, node in nodes(ast.Raise):
+            self.assertIn(called(node.exc), own, (path, node.lineno))
+
+
 class TestWalked(unittest.TestCase):
     def test_walked_on_the_spot(self):
         for path, node, parent in with_parents(lambda node: called(node) in WALKED):
@@ -248,7 +279,7 @@ class TestNames(unittest.TestCase):
             for name, row in bound_names(tree):
                 self.assertTrue(FORM.fullmatch(name) or name in DUNDERS, (path, row, name))
                 self.assertNotIn(name, NOT_NAMES, (path, row))
-                self.assertFalse(hasattr(builtins, name), (path, row, name))
+                self.assertFalse(name not in DUNDERS and hasattr(builtins, name), (path, row, name))
 
     def test_each_name_once_at_the_top(self):
         for path, tree in trees():

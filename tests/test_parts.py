@@ -5,8 +5,8 @@ import unittest
 from boxcover.errors import NoHeap, NoWays
 from boxcover.parts import covered_both, covered_without, covers_same, is_parting, parting_of
 from tests.helper import (
-    FAR, FAR_PLACES, LIMITS, LONG, NEAR_PLACES, PLACES_HIGH, PLACES_LOW, UNIT, Counted, counted, drawn_apart,
-    holds_plainly, mixed, no_boxes, no_heaps, refused, ring, shapes, spots, squares, things, told,
+    FAR, FAR_PLACES, LIMITS, LONG, NEAR_PLACES, PLACES_HIGH, PLACES_LOW, UNIT, Counted, changed_otherwise, counted,
+    drawn_apart, holds_plainly, mixed, no_boxes, no_heaps, refused, ring, shapes, spots, squares, things, told,
 )
 
 OF_TWO = [covers_same, covered_without, covered_both]
@@ -43,16 +43,6 @@ def is_parting_plainly(one, boxes):
 
 def spot_boxes(held):
     return [tuple((number, number + 1) for number in spot) for spot in held]
-
-
-def changed_otherwise(box):
-    """A box a little longer, shorter, moved, either way."""
-    for way in range(len(box)):
-        low, high = box[way]
-        for stretch in [(low, high + 1), (low - 1, high), (low + 1, high), (low, high - 1),
-                        (low + 1, high + 1), (low - 1, high - 1)]:
-            if stretch[0] < stretch[1]:
-                yield box[:way] + (stretch,) + box[way + 1:]
 
 
 def pairs(ways, many):
@@ -241,7 +231,8 @@ class TestWhatIsAParting(unittest.TestCase):
             parting = parting_of(heap)
             box = parting[0]
             wrong = [tuple(parting), dict(enumerate(parting)), {box: True}, box, (box,), [parting], [[box]],
-                     [list(box)], [tuple(list(stretch) for stretch in box)], str(parting), (ways, parting), heap, [heap]]
+                     [list(box)], [tuple(list(stretch) for stretch in box)], str(parting), (ways, parting), heap,
+                     [heap]]
             for thing in wrong + [thing for thing in things() if thing != []]:
                 self.assertIs(told(self, is_parting, heap, thing), False, thing)
             for thing in no_boxes(ways):
